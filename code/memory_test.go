@@ -6,11 +6,12 @@ import (
 
 	"doppel/api"
 	"doppel/code"
+	"doppel/sample"
 )
 
 // wordAt is what a unit has at an address, when its main begins.
 func wordAt(at int, u api.Unit) api.Result {
-	u.Funcs = []api.Func{function("main", 0, 1, 0, constant(0, at), load(0, 0), give(0))}
+	u.Funcs = []api.Func{sample.Func("main", 0, 1, 0, sample.Const(0, at), sample.Load(0, 0), sample.Return(0))}
 	return code.Run(u, nil, plenty)
 }
 
@@ -55,20 +56,20 @@ func TestAddresses(t *testing.T) {
 		if at >= 1 && at <= 4095 {
 			r, both = exit(0), exit(at)
 		}
-		comes(t, "Load at "+number(at), alone(constant(0, at), load(1, 0), give(1)), "", r)
-		comes(t, "Store at "+number(at), alone(constant(0, at), store(0, 0), give(1)), "", r)
-		comes(t, "Store and Load at "+number(at), alone(constant(0, at), store(0, 0), load(2, 0), give(2)), "", both)
+		comes(t, "Load at "+number(at), alone(sample.Const(0, at), sample.Load(1, 0), sample.Return(1)), "", r)
+		comes(t, "Store at "+number(at), alone(sample.Const(0, at), sample.Store(0, 0), sample.Return(1)), "", r)
+		comes(t, "Store and Load at "+number(at), alone(sample.Const(0, at), sample.Store(0, 0), sample.Load(2, 0), sample.Return(2)), "", both)
 	}
 	// Words beside one that is stored at stay as they are.
 	for _, at := range []int{2, 3, 4094} {
 		for by := -1; by <= 1; by++ {
-			u := alone(constant(0, at), constant(1, 7), store(0, 1), constant(0, at+by), load(2, 0), give(2))
+			u := alone(sample.Const(0, at), sample.Const(1, 7), sample.Store(0, 1), sample.Const(0, at+by), sample.Load(2, 0), sample.Return(2))
 			comes(t, number(by)+" beside "+number(at), u, "", exit((1-by*by)*7))
 		}
 	}
 	// An address may be computed, and lie outside of the function's own frame.
-	comes(t, "ahead of the frame", with(unit(function("main", 0, 3, 1, frame(0, 0), constant(1, 2), binary(api.Sub, 0, 0, 1), load(2, 0), give(2))), 9, api.Global{At: 7, Size: 1, Init: 5}), "", exit(5))
-	comes(t, "behind the frame", unit(function("main", 0, 3, 1, frame(0, 1), constant(1, 7), store(0, 1), load(2, 0), give(2))), "", exit(7))
+	comes(t, "ahead of the frame", with(unit(sample.Func("main", 0, 3, 1, sample.Frame(0, 0), sample.Const(1, 2), sample.Binary(api.Sub, 0, 0, 1), sample.Load(2, 0), sample.Return(2))), 9, api.Global{At: 7, Size: 1, Init: 5}), "", exit(5))
+	comes(t, "behind the frame", unit(sample.Func("main", 0, 3, 1, sample.Frame(0, 1), sample.Const(1, 7), sample.Store(0, 1), sample.Load(2, 0), sample.Return(2))), "", exit(7))
 }
 
 // TestFramesThatFit has frames that fit exactly, and that have one word too many, of main and of a function that is called.
@@ -78,14 +79,14 @@ func TestFramesThatFit(t *testing.T) {
 			for _, other := range []int{0, 1, 5, 4095} {
 				for more := range 2 {
 					room := 4096 - top
-					comes(t, "main, "+number(more)+" too many", with(unit(function("main", 0, 1, min(room+more, 4096), constant(0, 'A'), putc(0), give(0))), top), "", []api.Result{result(api.Exit, 'A', "A"), result(api.Full, 0, "")}[more])
+					comes(t, "main, "+number(more)+" too many", with(unit(sample.Func("main", 0, 1, min(room+more, 4096), sample.Const(0, 'A'), sample.Putc(0), sample.Return(0))), top), "", []api.Result{result(api.Exit, 'A', "A"), result(api.Full, 0, "")}[more])
 					if own > room || other > room-own {
 						continue
 					}
 					// f has what is left by main, and g what is left by f.
-					f := function("f", 0, 1, other, call(0, "g"), give(0))
-					g := function("g", 0, 1, min(room-own-other+more, 4096), constant(0, 'A'), putc(0), give(0))
-					main := function("main", 0, 1, own, putc(0), call(0, "f"), give(0))
+					f := sample.Func("f", 0, 1, other, sample.Call(0, "g"), sample.Return(0))
+					g := sample.Func("g", 0, 1, min(room-own-other+more, 4096), sample.Const(0, 'A'), sample.Putc(0), sample.Return(0))
+					main := sample.Func("main", 0, 1, own, sample.Putc(0), sample.Call(0, "f"), sample.Return(0))
 					comes(t, "a function, "+number(more)+" too many", with(unit(main, f, g), top), "", []api.Result{result(api.Exit, 'A', "\x00A"), result(api.Full, 0, "\x00")}[more])
 				}
 			}
@@ -96,30 +97,30 @@ func TestFramesThatFit(t *testing.T) {
 // TestFrames has the addresses of frames within one another, and of those that come after others have ended.
 func TestFrames(t *testing.T) {
 	// f puts out its address, g its own and that of f within it, main all of them around a call of each.
-	f := function("f", 0, 1, 3, frame(0, 0), putc(0), give(0))
-	g := function("g", 0, 1, 5, frame(0, 0), putc(0), call(-1, "f"), frame(0, 5), putc(0), give(0))
-	main := function("main", 0, 1, 2, frame(0, 0), putc(0), call(-1, "f"), call(-1, "g"), call(-1, "f"), frame(0, 1), putc(0), give(0))
+	f := sample.Func("f", 0, 1, 3, sample.Frame(0, 0), sample.Putc(0), sample.Return(0))
+	g := sample.Func("g", 0, 1, 5, sample.Frame(0, 0), sample.Putc(0), sample.Call(-1, "f"), sample.Frame(0, 5), sample.Putc(0), sample.Return(0))
+	main := sample.Func("main", 0, 1, 2, sample.Frame(0, 0), sample.Putc(0), sample.Call(-1, "f"), sample.Call(-1, "g"), sample.Call(-1, "f"), sample.Frame(0, 1), sample.Putc(0), sample.Return(0))
 	comes(t, "frames", with(unit(main, f, g), 70), "", result(api.Exit, 71, "FHHMMHG"))
 	// A frame of no words is where the next one is.
-	empty := function("e", 0, 1, 0, frame(0, 0), putc(0), call(-1, "f"), give(0))
-	comes(t, "no words", with(unit(function("main", 0, 1, 0, call(-1, "e"), call(-1, "f"), give(0)), empty, f), 70), "", result(api.Exit, 0, "FFF"))
+	empty := sample.Func("e", 0, 1, 0, sample.Frame(0, 0), sample.Putc(0), sample.Call(-1, "f"), sample.Return(0))
+	comes(t, "no words", with(unit(sample.Func("main", 0, 1, 0, sample.Call(-1, "e"), sample.Call(-1, "f"), sample.Return(0)), empty, f), 70), "", result(api.Exit, 0, "FFF"))
 }
 
 // TestFramesKeepTheirWords holds that a frame has what a call before has left there.
 func TestFramesKeepTheirWords(t *testing.T) {
-	put := function("put", 1, 3, 2, frame(1, 1), store(1, 0), give(1))
-	get := function("get", 0, 2, 2, frame(1, 1), load(0, 1), give(0))
-	main := func(l ...api.Instr) api.Func { return function("main", 0, 3, 1, l...) }
-	comes(t, "what was put", unit(put, get, main(constant(0, 7), call(-1, "put", 0), call(1, "get"), give(1))), "", exit(7))
-	comes(t, "what was put, with another between", unit(put, get, main(constant(0, 7), call(-1, "put", 0), constant(0, 0), call(-1, "get"), call(1, "get"), give(1))), "", exit(7))
-	comes(t, "nothing", unit(put, get, main(call(1, "get"), give(1))), "", exit(0))
+	put := sample.Func("put", 1, 3, 2, sample.Frame(1, 1), sample.Store(1, 0), sample.Return(1))
+	get := sample.Func("get", 0, 2, 2, sample.Frame(1, 1), sample.Load(0, 1), sample.Return(0))
+	main := func(l ...api.Instr) api.Func { return sample.Func("main", 0, 3, 1, l...) }
+	comes(t, "what was put", unit(put, get, main(sample.Const(0, 7), sample.Call(-1, "put", 0), sample.Call(1, "get"), sample.Return(1))), "", exit(7))
+	comes(t, "what was put, with another between", unit(put, get, main(sample.Const(0, 7), sample.Call(-1, "put", 0), sample.Const(0, 0), sample.Call(-1, "get"), sample.Call(1, "get"), sample.Return(1))), "", exit(7))
+	comes(t, "nothing", unit(put, get, main(sample.Call(1, "get"), sample.Return(1))), "", exit(0))
 	// What a main has stored behind its own frame, and a global that lies there.
-	comes(t, "stored ahead", unit(get, main(constant(0, 3), constant(1, 9), store(0, 1), call(1, "get"), give(1))), "", exit(9))
-	comes(t, "a global of no words", with(unit(get, main(call(1, "get"), give(1))), 3, api.Global{At: 3, Init: 5}), "", exit(0))
-	comes(t, "a global of no words, in main's frame", with(unit(main(frame(0, 0), load(1, 0), give(1))), 3, api.Global{At: 3, Init: 5}), "", exit(5))
+	comes(t, "stored ahead", unit(get, main(sample.Const(0, 3), sample.Const(1, 9), sample.Store(0, 1), sample.Call(1, "get"), sample.Return(1))), "", exit(9))
+	comes(t, "a global of no words", with(unit(get, main(sample.Call(1, "get"), sample.Return(1))), 3, api.Global{At: 3, Init: 5}), "", exit(0))
+	comes(t, "a global of no words, in main's frame", with(unit(main(sample.Frame(0, 0), sample.Load(1, 0), sample.Return(1))), 3, api.Global{At: 3, Init: 5}), "", exit(5))
 	// Where a function calls itself, each call has a frame of its own.
-	f := function("f", 1, 4, 1, frame(1, 0), store(1, 0), branch(0, 3, 6), constant(2, 1), binary(api.Sub, 2, 0, 2), call(2, "f", 2), load(3, 1), putc(3), give(3))
-	comes(t, "frames of their own", unit(f, main(constant(0, 3), call(0, "f", 0), give(0))), "", result(api.Exit, 3, "\x00\x01\x02\x03"))
+	f := sample.Func("f", 1, 4, 1, sample.Frame(1, 0), sample.Store(1, 0), sample.Branch(0, 3, 6), sample.Const(2, 1), sample.Binary(api.Sub, 2, 0, 2), sample.Call(2, "f", 2), sample.Load(3, 1), sample.Putc(3), sample.Return(3))
+	comes(t, "frames of their own", unit(f, main(sample.Const(0, 3), sample.Call(0, "f", 0), sample.Return(0))), "", result(api.Exit, 3, "\x00\x01\x02\x03"))
 }
 
 // TestUntilNothingFits has functions that call themselves until there is no room.
@@ -127,18 +128,18 @@ func TestUntilNothingFits(t *testing.T) {
 	for _, size := range []int{1, 2, 3, 100, 1000, 1365, 4095} {
 		for _, own := range []int{0, 1, 50} {
 			for _, top := range []int{1, 2, 2000, 4046} {
-				f := function("f", 0, 2, size, constant(0, 'A'), putc(0), call(1, "f"), give(0))
-				u := with(unit(f, function("main", 0, 1, own, call(0, "f"), give(0))), top)
+				f := sample.Func("f", 0, 2, size, sample.Const(0, 'A'), sample.Putc(0), sample.Call(1, "f"), sample.Return(0))
+				u := with(unit(f, sample.Func("main", 0, 1, own, sample.Call(0, "f"), sample.Return(0))), top)
 				comes(t, "frames of "+number(size), u, "", result(api.Full, 0, strings.Repeat("A", (4096-top-own)/size)))
 			}
 		}
 	}
 	// Two in turn, and main itself.
-	a := function("a", 0, 1, 10, putc(0), call(0, "b"), give(0))
-	b := function("b", 0, 1, 20, putc(0), call(0, "a"), give(0))
-	comes(t, "two in turn", unit(a, b, function("main", 0, 1, 0, call(0, "a"), give(0))), "", result(api.Full, 0, strings.Repeat("\x00", 273)))
-	comes(t, "main", unit(function("main", 0, 1, 1000, putc(0), call(0, "main"), give(0))), "", result(api.Full, 0, "\x00\x00\x00\x00"))
+	a := sample.Func("a", 0, 1, 10, sample.Putc(0), sample.Call(0, "b"), sample.Return(0))
+	b := sample.Func("b", 0, 1, 20, sample.Putc(0), sample.Call(0, "a"), sample.Return(0))
+	comes(t, "two in turn", unit(a, b, sample.Func("main", 0, 1, 0, sample.Call(0, "a"), sample.Return(0))), "", result(api.Full, 0, strings.Repeat("\x00", 273)))
+	comes(t, "main", unit(sample.Func("main", 0, 1, 1000, sample.Putc(0), sample.Call(0, "main"), sample.Return(0))), "", result(api.Full, 0, "\x00\x00\x00\x00"))
 	// A frame that is left is free: as often as one likes.
-	f := function("f", 0, 1, 4000, give(0))
-	comes(t, "again and again", unit(f, function("main", 0, 3, 0, constant(0, 1000), constant(1, 1), call(-1, "f"), binary(api.Sub, 0, 0, 1), branch(0, 2, 5), give(1))), "", exit(1))
+	f := sample.Func("f", 0, 1, 4000, sample.Return(0))
+	comes(t, "again and again", unit(f, sample.Func("main", 0, 3, 0, sample.Const(0, 1000), sample.Const(1, 1), sample.Call(-1, "f"), sample.Binary(api.Sub, 0, 0, 1), sample.Branch(0, 2, 5), sample.Return(1))), "", exit(1))
 }

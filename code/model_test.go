@@ -1,8 +1,6 @@
 package code_test
 
 import (
-	"math/rand"
-
 	"doppel/api"
 	"doppel/word"
 )
@@ -123,100 +121,4 @@ func (m *model) address(n int) int {
 		m.end(api.Trap, 1)
 	}
 	return n
-}
-
-// maker makes units from pseudo-random numbers: the same one from the same number.
-type maker struct {
-	*rand.Rand
-	params []int // of each function
-}
-
-func nameOf(k int) string {
-	if k == 0 {
-		return "main"
-	}
-	return "f" + number(k)
-}
-
-// made is a valid unit, with a main.
-func made(seed int64) api.Unit {
-	m := &maker{Rand: rand.New(rand.NewSource(seed)), params: []int{0}}
-	for range m.Intn(4) {
-		m.params = append(m.params, m.Intn(api.MaxParams+1))
-	}
-	u := api.Unit{Top: 1 + m.Intn(40)}
-	if m.Intn(8) == 0 {
-		u.Top = 4096 - m.Intn(200)
-	}
-	for range m.Intn(4) {
-		at := 1 + m.Intn(u.Top)
-		u.Globals = append(u.Globals, api.Global{Name: "g", At: at, Size: m.Intn(u.Top - at + 1), Init: m.word()})
-	}
-	for k, params := range m.params {
-		f := api.Func{Name: nameOf(k), Params: params, Regs: params + 1 + m.Intn(8), Frame: m.Intn(4)}
-		if m.Intn(8) == 0 {
-			f.Frame = m.Intn(300)
-		}
-		n := 2 + m.Intn(25)
-		for range n - 1 {
-			f.Code = append(f.Code, m.instruction(f, 1+m.Intn(api.Return), n))
-		}
-		f.Code = append(f.Code, m.instruction(f, api.Jump+m.Intn(3), n))
-		u.Funcs = append(u.Funcs, f)
-	}
-	m.Shuffle(len(u.Funcs), func(a, b int) { u.Funcs[a], u.Funcs[b] = u.Funcs[b], u.Funcs[a] })
-	return u
-}
-
-// word is mostly a small one, an address often.
-func (m *maker) word() int {
-	switch m.Intn(8) {
-	case 0:
-		return int(int32(m.Uint32()))
-	case 1:
-		return []int{-1 << 31, 1<<31 - 1, 4095, 4096, -256, 321}[m.Intn(6)]
-	}
-	return m.Intn(60) - 4
-}
-
-// instruction is one of a kind, or a Const in place of some that would end most runs.
-func (m *maker) instruction(f api.Func, kind, n int) api.Instr {
-	r := func() int { return m.Intn(f.Regs) }
-	// Most jumps lead onward, if there is room.
-	to := func() int { return min(len(f.Code)+1+m.Intn(4), m.Intn(2*n), n-1) }
-	switch kind {
-	case api.Unary:
-		return unary(api.Neg+api.Op(m.Intn(4)), r(), r())
-	case api.Binary:
-		return binary(api.Add+api.Op(m.Intn(19)), r(), r(), r())
-	case api.Copy:
-		return copied(r(), r())
-	case api.Frame:
-		return frame(r(), m.Intn(f.Frame+1))
-	case api.Load:
-		return load(r(), r())
-	case api.Store:
-		return store(r(), r())
-	case api.Call:
-		k := m.Intn(len(m.params))
-		i := call(r()-m.Intn(2), nameOf(k))
-		for i.N < m.params[k] {
-			i.Args[i.N] = r()
-			i.N++
-		}
-		return i
-	case api.Getc:
-		return getc(r())
-	case api.Putc:
-		return putc(r())
-	case api.Jump:
-		return jump(to())
-	case api.Branch:
-		return branch(r(), to(), to())
-	case api.Return:
-		if len(f.Code) >= n/2 {
-			return give(r())
-		}
-	}
-	return constant(r(), m.word())
 }

@@ -7,6 +7,7 @@ import (
 
 	"doppel/api"
 	"doppel/code"
+	"doppel/sample"
 )
 
 // TestPlain has each kind, and numbers that are none.
@@ -16,7 +17,7 @@ func TestPlain(t *testing.T) {
 			t.Errorf("Plain(%d): %v", kind, got)
 		}
 	}
-	for n, i := range kinds() {
+	for n, i := range sample.Kinds() {
 		if code.Plain(i.Kind).Kind != n+1 {
 			t.Error("the kinds are not in their order")
 		}
@@ -53,28 +54,28 @@ func full(kind int) api.Instr {
 // TestParts has each kind, of valid instructions, and of those that have every field.
 func TestParts(t *testing.T) {
 	for _, p := range []parts{
-		{constant(3, 5), nil, 3, []int{8}},
-		{unary(api.Neg, 3, 4), []int{4}, 3, []int{8}},
-		{binary(api.Div, 3, 5, 4), []int{5, 4}, 3, []int{8}},
-		{binary(api.Add, 4, 4, 4), []int{4, 4}, 4, []int{8}},
-		{copied(3, 4), []int{4}, 3, []int{8}},
-		{copied(0, 0), []int{0}, 0, []int{8}},
-		{frame(3, 4), nil, 3, []int{8}},
-		{load(3, 4), []int{4}, 3, []int{8}},
-		{store(5, 4), []int{5, 4}, -1, []int{8}},
-		{call(3, "f"), nil, 3, []int{8}},
-		{call(-1, "f"), nil, -1, []int{8}},
-		{call(3, "f", 6), []int{6}, 3, []int{8}},
-		{call(-1, "f", 6, 5, 6, 0), []int{6, 5, 6, 0}, -1, []int{8}},
-		{call(0, "f", 9, 8, 7, 6, 5, 4), []int{9, 8, 7, 6, 5, 4}, 0, []int{8}},
-		{getc(3), nil, 3, []int{8}},
-		{putc(3), []int{3}, -1, []int{8}},
-		{jump(3), nil, -1, []int{3}},
-		{jump(7), nil, -1, []int{7}},
-		{branch(3, 9, 2), []int{3}, -1, []int{9, 2}},
-		{branch(3, 2, 9), []int{3}, -1, []int{2, 9}},
-		{branch(3, 5, 5), []int{3}, -1, []int{5, 5}},
-		{give(3), []int{3}, -1, nil},
+		{sample.Const(3, 5), nil, 3, []int{8}},
+		{sample.Unary(api.Neg, 3, 4), []int{4}, 3, []int{8}},
+		{sample.Binary(api.Div, 3, 5, 4), []int{5, 4}, 3, []int{8}},
+		{sample.Binary(api.Add, 4, 4, 4), []int{4, 4}, 4, []int{8}},
+		{sample.Copy(3, 4), []int{4}, 3, []int{8}},
+		{sample.Copy(0, 0), []int{0}, 0, []int{8}},
+		{sample.Frame(3, 4), nil, 3, []int{8}},
+		{sample.Load(3, 4), []int{4}, 3, []int{8}},
+		{sample.Store(5, 4), []int{5, 4}, -1, []int{8}},
+		{sample.Call(3, "f"), nil, 3, []int{8}},
+		{sample.Call(-1, "f"), nil, -1, []int{8}},
+		{sample.Call(3, "f", 6), []int{6}, 3, []int{8}},
+		{sample.Call(-1, "f", 6, 5, 6, 0), []int{6, 5, 6, 0}, -1, []int{8}},
+		{sample.Call(0, "f", 9, 8, 7, 6, 5, 4), []int{9, 8, 7, 6, 5, 4}, 0, []int{8}},
+		{sample.Getc(3), nil, 3, []int{8}},
+		{sample.Putc(3), []int{3}, -1, []int{8}},
+		{sample.Jump(3), nil, -1, []int{3}},
+		{sample.Jump(7), nil, -1, []int{7}},
+		{sample.Branch(3, 9, 2), []int{3}, -1, []int{9, 2}},
+		{sample.Branch(3, 2, 9), []int{3}, -1, []int{2, 9}},
+		{sample.Branch(3, 5, 5), []int{3}, -1, []int{5, 5}},
+		{sample.Return(3), []int{3}, -1, nil},
 		{full(api.Const), nil, 20, []int{8}},
 		{full(api.Unary), []int{21}, 20, []int{8}},
 		{full(api.Binary), []int{21, 22}, 20, []int{8}},
@@ -158,7 +159,7 @@ func TestPartsAreNew(t *testing.T) {
 
 // TestFind has names that are there, are not, and stand twice.
 func TestFind(t *testing.T) {
-	u := unit(function("f", 0, 0, 0), function("main", 0, 0, 0), function("f", 1, 1, 0), function("", 0, 0, 0), function("F f", 0, 0, 0), function("main", 0, 0, 0))
+	u := unit(sample.Func("f", 0, 0, 0), sample.Func("main", 0, 0, 0), sample.Func("f", 1, 1, 0), sample.Func("", 0, 0, 0), sample.Func("F f", 0, 0, 0), sample.Func("main", 0, 0, 0))
 	u.Globals = []api.Global{{Name: "g", At: 1}}
 	for name, k := range map[string]int{"f": 0, "main": 1, "": 3, "F f": 4, "F": -1, "g": -1, "ff": -1, "mai": -1, "main ": -1, "Main": -1, "f\x00": -1} {
 		if got := code.Find(u, name); got != k {
@@ -172,7 +173,7 @@ func TestFind(t *testing.T) {
 	}
 	var many []api.Func
 	for n := range 300 {
-		many = append(many, function("f"+number(n%200), 0, 0, 0))
+		many = append(many, sample.Func("f"+number(n%200), 0, 0, 0))
 	}
 	for n := range 300 {
 		k := n

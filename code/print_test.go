@@ -9,6 +9,7 @@ import (
 
 	"doppel/api"
 	"doppel/code"
+	"doppel/sample"
 )
 
 // copyOf is a function with code of its own.
@@ -65,7 +66,7 @@ func others(f api.Func) map[string]api.Func {
 }
 
 // broad is a function with an instruction of each kind.
-func broad() api.Func { return function("f", 1, 4, 3, kinds()...) }
+func broad() api.Func { return sample.Func("f", 1, 4, 3, sample.Kinds()...) }
 
 // alike is Same, without the package that is tested.
 func alike(f, g api.Func) bool {
@@ -94,7 +95,7 @@ func holdAll(t *testing.T, l []api.Func) {
 
 // TestOthers has functions that differ in one thing each.
 func TestOthers(t *testing.T) {
-	for _, f := range []api.Func{function("", 0, 0, 0), function("", 0, 0, 0, api.Instr{Kind: 7}), function("f", 6, 7, 8, full(9), full(10)), function("f 1", 0, 0, 0, call(-1, "1 2", 1, 2))} {
+	for _, f := range []api.Func{sample.Func("", 0, 0, 0), sample.Func("", 0, 0, 0, api.Instr{Kind: 7}), sample.Func("f", 6, 7, 8, full(9), full(10)), sample.Func("f 1", 0, 0, 0, sample.Call(-1, "1 2", 1, 2))} {
 		holdAll(t, slices.Collect(maps.Values(others(f))))
 	}
 	f := broad()
@@ -111,21 +112,21 @@ func TestSeparators(t *testing.T) {
 	var l []api.Func
 	add := func(f api.Func) { l = append(l, f) }
 	for _, name := range []string{"", "f", "f 0", "f 0 0", "f\n", "f\n0", "0", "-1", "f,", "\"", "\"\"", "f\" 0 0 0", "f\\", "f\\\"", "\\n", "\n", "'", "1:f", "4:f", " f", "f ", "\t", "\x00", "\x01", "\x80", "\\x80", "\u0080", "\ufffd", "\xef\xbf", "\u00e9", "e\u0301", "\x7f", "#", "[f]", "(f)", "f;g", "f=1"} {
-		add(function(name, 0, 0, 0))
-		add(function(name, 0, 0, 0, api.Instr{}))
-		add(function("f", 0, 0, 0, api.Instr{Text: name}, api.Instr{Text: "x"}))
-		add(function("f", 0, 0, 0, api.Instr{Text: "x"}, api.Instr{Text: name}))
-		add(function(name, 1, 23, 4))
-		add(function(name, 12, 3, 4))
-		add(function(name, 1, 2, 34))
+		add(sample.Func(name, 0, 0, 0))
+		add(sample.Func(name, 0, 0, 0, api.Instr{}))
+		add(sample.Func("f", 0, 0, 0, api.Instr{Text: name}, api.Instr{Text: "x"}))
+		add(sample.Func("f", 0, 0, 0, api.Instr{Text: "x"}, api.Instr{Text: name}))
+		add(sample.Func(name, 1, 23, 4))
+		add(sample.Func(name, 12, 3, 4))
+		add(sample.Func(name, 1, 2, 34))
 	}
 	// Texts that are those of parts of functions.
-	for _, f := range []api.Func{function("a", 1, 2, 3), function("b", 0, 1, 0, give(0)), function("c", 0, 1, 0, constant(0, 1), give(0))} {
+	for _, f := range []api.Func{sample.Func("a", 1, 2, 3), sample.Func("b", 0, 1, 0, sample.Return(0)), sample.Func("c", 0, 1, 0, sample.Const(0, 1), sample.Return(0))} {
 		text := code.Print(f)
 		add(f)
 		for _, part := range append(strings.Split(text, "\n"), text, text+text, text[:len(text)/2], text[1:]) {
-			add(function(part, 1, 2, 3))
-			add(function("a", 1, 2, 3, api.Instr{Text: part}))
+			add(sample.Func(part, 1, 2, 3))
+			add(sample.Func("a", 1, 2, 3, api.Instr{Text: part}))
 		}
 	}
 	holdAll(t, l)
@@ -133,7 +134,7 @@ func TestSeparators(t *testing.T) {
 
 // TestSame has functions that are the same, in memory of their own.
 func TestSame(t *testing.T) {
-	for _, f := range []api.Func{{}, broad(), function("f", -1, 1<<40, math.MinInt, full(-3)), function("f", 0, 0, 0, slices.Repeat([]api.Instr{full(3)}, 9000)...)} {
+	for _, f := range []api.Func{{}, broad(), sample.Func("f", -1, 1<<40, math.MinInt, full(-3)), sample.Func("f", 0, 0, 0, slices.Repeat([]api.Instr{full(3)}, 9000)...)} {
 		g := copyOf(f)
 		if !code.Same(f, f) || !code.Same(f, g) || !code.Same(g, f) || code.Print(f) != code.Print(g) {
 			t.Error("not the same:", f.Name)
@@ -149,14 +150,14 @@ func TestSame(t *testing.T) {
 	}
 	var l []api.Func
 	for seed := range 40 {
-		l = append(append(l, made(int64(seed)).Funcs...), made(int64(seed/2)).Funcs...)
+		l = append(append(l, sample.Unit(seed).Funcs...), sample.Unit(seed/2).Funcs...)
 	}
 	holdAll(t, l)
 }
 
 // TestPrint holds that a text has the name, Params, Regs, Frame, and then the fields of the instructions.
 func TestPrint(t *testing.T) {
-	f := function("some", 111, 222, -333, api.Instr{Kind: 1001, Op: 1002, Dst: 1003, A: 1004, B: -1005, N: 1006, Text: "other", Args: [api.MaxParams]int{1007, 1008, 0, 1010, 1011, math.MinInt}, To: 1013, Else: -1}, api.Instr{Kind: 2001, Text: "third", Else: math.MaxInt})
+	f := sample.Func("some", 111, 222, -333, api.Instr{Kind: 1001, Op: 1002, Dst: 1003, A: 1004, B: -1005, N: 1006, Text: "other", Args: [api.MaxParams]int{1007, 1008, 0, 1010, 1011, math.MinInt}, To: 1013, Else: -1}, api.Instr{Kind: 2001, Text: "third", Else: math.MaxInt})
 	text := code.Print(f)
 	rest := text
 	for _, part := range []string{"some", "111", "222", "-333", "1001", "2001"} {
@@ -178,7 +179,7 @@ func TestPrint(t *testing.T) {
 
 // TestClone changes a copy, and looks at the original, and the other way round.
 func TestClone(t *testing.T) {
-	for _, made := range []func() api.Func{broad, func() api.Func { return function("f", -1, 1<<40, math.MinInt, full(-3)) }, func() api.Func { return api.Func{} }, func() api.Func { return api.Func{Name: "f", Code: []api.Instr{}} }} {
+	for _, made := range []func() api.Func{broad, func() api.Func { return sample.Func("f", -1, 1<<40, math.MinInt, full(-3)) }, func() api.Func { return api.Func{} }, func() api.Func { return api.Func{Name: "f", Code: []api.Instr{}} }} {
 		f := made()
 		f.Code = slices.Grow(f.Code, 5)
 		// What is in the spare capacity is not the function's.

@@ -7,6 +7,7 @@ import (
 
 	"doppel/api"
 	"doppel/code"
+	"doppel/sample"
 )
 
 // TestRuns holds that runs of pseudo-random units are those of the model, with many amounts of fuel.
@@ -14,7 +15,7 @@ func TestRuns(t *testing.T) {
 	ends := map[[2]int]int{}
 	putting, kindsRun := 0, map[int]bool{}
 	for seed := range 6000 {
-		u := made(int64(seed))
+		u := sample.Unit(seed)
 		if !code.Right(u) {
 			t.Fatal("not valid:", seed)
 		}
@@ -65,16 +66,16 @@ func grows(t *testing.T, what string, u api.Unit, input string, most int) api.Re
 func TestMoreFuel(t *testing.T) {
 	ends := map[int]int{}
 	for seed := range 400 {
-		ends[grows(t, number(seed), made(int64(50_000+seed)), "a\x01b", 150).End]++
+		ends[grows(t, number(seed), sample.Unit(50_000+seed), "a\x01b", 150).End]++
 	}
 	for end := api.Exit; end <= api.Spent; end++ {
 		if ends[end] < 5 {
 			t.Error("too few runs end with", end, ends)
 		}
 	}
-	full := unit(function("main", 0, 1, 500, putc(0), call(0, "main"), give(0)))
+	full := unit(sample.Func("main", 0, 1, 500, sample.Putc(0), sample.Call(0, "main"), sample.Return(0)))
 	want(t, "Full", grows(t, "Full", full, "", 40), result(api.Full, 0, strings.Repeat("\x00", 8)))
-	echo := alone(constant(1, 1), getc(0), binary(api.Add, 2, 0, 1), branch(2, 4, 6), putc(0), jump(1), give(2))
+	echo := alone(sample.Const(1, 1), sample.Getc(0), sample.Binary(api.Add, 2, 0, 1), sample.Branch(2, 4, 6), sample.Putc(0), sample.Jump(1), sample.Return(2))
 	want(t, "an echo", grows(t, "an echo", echo, "abc", 60), result(api.Exit, 0, "abc"))
 	want(t, "an echo, Spent", grows(t, "an echo", echo, strings.Repeat("x", 100), 51), result(api.Spent, 0, strings.Repeat("x", 10)))
 }
@@ -82,10 +83,10 @@ func TestMoreFuel(t *testing.T) {
 // TestSameTwice holds that a run depends on its arguments alone.
 func TestSameTwice(t *testing.T) {
 	for seed := range 300 {
-		u := made(int64(70_000 + seed))
+		u := sample.Unit(70_000 + seed)
 		first := code.Run(u, []byte("ab"), 500)
 		roomy := api.Unit{Funcs: slices.Grow(slices.Clone(u.Funcs), 9), Globals: slices.Grow(slices.Clone(u.Globals), 9), Top: u.Top}
-		code.Run(made(int64(seed)), []byte("x"), 500)
+		code.Run(sample.Unit(seed), []byte("x"), 500)
 		want(t, number(seed), code.Run(roomy, append(make([]byte, 0, 9), "ab"...), 500), first)
 		slices.Reverse(roomy.Funcs)
 		want(t, number(seed)+", in another order", code.Run(roomy, []byte("ab"), 500), first)

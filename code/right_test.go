@@ -8,6 +8,7 @@ import (
 
 	"doppel/api"
 	"doppel/code"
+	"doppel/sample"
 )
 
 // hold holds whether a function may be.
@@ -19,68 +20,70 @@ func hold(t *testing.T, what string, f api.Func, right bool) {
 }
 
 // around is a function with five registers and a frame of seven words, which has an instruction, and two more.
-func around(i api.Instr) api.Func { return function("f", 1, 5, 7, i, give(0), give(0)) }
+func around(i api.Instr) api.Func {
+	return sample.Func("f", 1, 5, 7, i, sample.Return(0), sample.Return(0))
+}
 
 // TestRightFunc breaks each rule for a function, at both ends of what may be.
 func TestRightFunc(t *testing.T) {
 	// It names no register.
-	loop := jump(0)
+	loop := sample.Jump(0)
 	for _, name := range []string{"f", "main", " ", "\x00", "a b\n", strings.Repeat("x", 1000), "\xff"} {
-		hold(t, name, function(name, 0, 0, 0, loop), true)
+		hold(t, name, sample.Func(name, 0, 0, 0, loop), true)
 	}
-	hold(t, "no name", function("", 0, 0, 0, loop), false)
+	hold(t, "no name", sample.Func("", 0, 0, 0, loop), false)
 	hold(t, "nothing", api.Func{}, false)
 	for _, n := range edges() {
 		few := n >= 0 && n <= 6
-		hold(t, "Params "+number(n), function("f", n, 10, 0, loop), few)
-		hold(t, "Params and Regs "+number(n), function("f", n, n, 0, loop), few)
-		hold(t, "Params "+number(n)+" of 4096", function("f", n, 4096, 0, loop), few)
-		hold(t, "Regs "+number(n), function("f", 0, n, 0, loop), n >= 0 && n <= 4096)
-		hold(t, "Frame "+number(n), function("f", 0, 0, n, loop), n >= 0 && n <= 4096)
+		hold(t, "Params "+number(n), sample.Func("f", n, 10, 0, loop), few)
+		hold(t, "Params and Regs "+number(n), sample.Func("f", n, n, 0, loop), few)
+		hold(t, "Params "+number(n)+" of 4096", sample.Func("f", n, 4096, 0, loop), few)
+		hold(t, "Regs "+number(n), sample.Func("f", 0, n, 0, loop), n >= 0 && n <= 4096)
+		hold(t, "Frame "+number(n), sample.Func("f", 0, 0, n, loop), n >= 0 && n <= 4096)
 		for params := range 7 {
-			hold(t, "Regs "+number(n)+", Params "+number(params), function("f", params, n, 0, loop), n >= params && n <= 4096)
+			hold(t, "Regs "+number(n)+", Params "+number(params), sample.Func("f", params, n, 0, loop), n >= params && n <= 4096)
 		}
-		hold(t, "register "+number(n), function("f", 0, 4096, 0, give(n)), n >= 0 && n <= 4095)
-		hold(t, "word "+number(n), function("f", 0, 1, 4096, frame(0, n), loop), n >= 0 && n <= 4096)
-		hold(t, "word "+number(n)+" of none", function("f", 0, 1, 0, frame(0, n), loop), n == 0)
-		hold(t, "a register of none: "+number(n), function("f", 0, 0, 0, give(n)), false)
+		hold(t, "register "+number(n), sample.Func("f", 0, 4096, 0, sample.Return(n)), n >= 0 && n <= 4095)
+		hold(t, "word "+number(n), sample.Func("f", 0, 1, 4096, sample.Frame(0, n), loop), n >= 0 && n <= 4096)
+		hold(t, "word "+number(n)+" of none", sample.Func("f", 0, 1, 0, sample.Frame(0, n), loop), n == 0)
+		hold(t, "a register of none: "+number(n), sample.Func("f", 0, 0, 0, sample.Return(n)), false)
 	}
 }
 
 // TestRightLength has from no instruction to too many, and each kind as the last one.
 func TestRightLength(t *testing.T) {
 	for n, right := range map[int]bool{0: false, 1: true, 2: true, 8191: true, 8192: true, 8193: false, 8194: false, 100_000: false} {
-		l := slices.Repeat([]api.Instr{constant(0, 1)}, n)
+		l := slices.Repeat([]api.Instr{sample.Const(0, 1)}, n)
 		if n > 0 {
-			l[n-1] = give(0)
+			l[n-1] = sample.Return(0)
 		}
-		hold(t, number(n)+" instructions", function("f", 0, 1, 0, l...), right)
+		hold(t, number(n)+" instructions", sample.Func("f", 0, 1, 0, l...), right)
 	}
 	hold(t, "nil", api.Func{Name: "f", Regs: 1}, false)
-	l := slices.Repeat([]api.Instr{constant(0, 1)}, 8192)
+	l := slices.Repeat([]api.Instr{sample.Const(0, 1)}, 8192)
 	for _, to := range edges() {
-		l[8191] = jump(to)
-		hold(t, "to "+number(to), function("f", 0, 1, 0, l...), to >= 0 && to < 8192)
+		l[8191] = sample.Jump(to)
+		hold(t, "to "+number(to), sample.Func("f", 0, 1, 0, l...), to >= 0 && to < 8192)
 	}
-	for _, i := range kinds() {
+	for _, i := range sample.Kinds() {
 		last := i.Kind == api.Jump || i.Kind == api.Branch || i.Kind == api.Return
-		hold(t, "the last one", function("f", 0, 4, 3, give(0), give(0), i), last)
-		hold(t, "the last one but one", function("f", 0, 4, 3, give(0), i, give(0)), true)
+		hold(t, "the last one", sample.Func("f", 0, 4, 3, sample.Return(0), sample.Return(0), i), last)
+		hold(t, "the last one but one", sample.Func("f", 0, 4, 3, sample.Return(0), i, sample.Return(0)), true)
 		if i.Kind == api.Jump {
 			i.To = 0
 		}
-		hold(t, "the only one", function("f", 0, 4, 3, i), last && i.Kind != api.Branch)
+		hold(t, "the only one", sample.Func("f", 0, 4, 3, i), last && i.Kind != api.Branch)
 	}
-	hold(t, "the only one, a Branch", function("f", 0, 1, 0, branch(0, 0, 0)), true)
+	hold(t, "the only one, a Branch", sample.Func("f", 0, 1, 0, sample.Branch(0, 0, 0)), true)
 	for kind := 14; kind < 20; kind++ {
-		hold(t, "the last one of no kind", function("f", 0, 4, 3, give(0), api.Instr{Kind: kind, Dst: -1, Else: -1}), false)
+		hold(t, "the last one of no kind", sample.Func("f", 0, 4, 3, sample.Return(0), api.Instr{Kind: kind, Dst: -1, Else: -1}), false)
 	}
 	// One that may not be is found wherever it stands.
 	for at := range 5 {
-		l := slices.Repeat([]api.Instr{give(0)}, 5)
-		hold(t, "all may be", function("f", 0, 1, 0, l...), true)
+		l := slices.Repeat([]api.Instr{sample.Return(0)}, 5)
+		hold(t, "all may be", sample.Func("f", 0, 1, 0, l...), true)
 		l[at].B = 1
-		hold(t, "one may not be", function("f", 0, 1, 0, l...), false)
+		hold(t, "one may not be", sample.Func("f", 0, 1, 0, l...), false)
 	}
 }
 
@@ -144,9 +147,9 @@ func changed(i api.Instr, n int) map[string]api.Instr {
 
 // TestRightFields has each field of each kind, with what may be in it, at both ends, and one beyond.
 func TestRightFields(t *testing.T) {
-	l := kinds()
+	l := sample.Kinds()
 	for n := range api.MaxParams + 1 {
-		l = append(l, call(2, "f", []int{1, 0, 4, 2, 3, 0}[:n]...), call(-1, "g", make([]int, n)...))
+		l = append(l, sample.Call(2, "f", []int{1, 0, 4, 2, 3, 0}[:n]...), sample.Call(-1, "g", make([]int, n)...))
 	}
 	for _, i := range l {
 		hold(t, "kind "+number(i.Kind), around(i), true)
@@ -181,7 +184,7 @@ func TestRightKinds(t *testing.T) {
 		i.Dst, i.Else = -1, 0
 		hold(t, "plain with Else, "+number(kind), around(i), kind == api.Branch)
 		hold(t, "of zeros, "+number(kind), around(api.Instr{Kind: kind}), false)
-		hold(t, "with every field, "+number(kind), function("f", 0, 50, 50, append(slices.Repeat([]api.Instr{give(0)}, 50), full(kind), give(0))...), false)
+		hold(t, "with every field, "+number(kind), sample.Func("f", 0, 50, 50, append(slices.Repeat([]api.Instr{sample.Return(0)}, 50), full(kind), sample.Return(0))...), false)
 	}
 }
 
@@ -190,7 +193,7 @@ func TestRightArguments(t *testing.T) {
 	for n := range 7 {
 		for k := range 6 {
 			for _, register := range []int{-1, 0, 1, 4, 5, math.MaxInt, math.MinInt} {
-				i := call(-1, "f", make([]int, n)...)
+				i := sample.Call(-1, "f", make([]int, n)...)
 				i.Args[k] = register
 				right := register == 0 || k < n && register > 0 && register < 5
 				hold(t, number(n)+" arguments, "+number(register)+" at "+number(k), around(i), right)
@@ -198,14 +201,14 @@ func TestRightArguments(t *testing.T) {
 		}
 	}
 	for _, n := range edges() {
-		i := call(0, "f")
+		i := sample.Call(0, "f")
 		i.N = n
 		hold(t, number(n)+" arguments", around(i), n >= 0 && n <= 6)
 	}
-	none := function("f", 0, 0, 0, call(-1, "f"), jump(0))
+	none := sample.Func("f", 0, 0, 0, sample.Call(-1, "f"), sample.Jump(0))
 	hold(t, "no register", none, true)
 	none.Code[0].N = 1
 	hold(t, "no register for an argument", none, false)
-	none.Code[0] = call(0, "f")
+	none.Code[0] = sample.Call(0, "f")
 	hold(t, "no register for a result", none, false)
 }

@@ -8,64 +8,16 @@ import (
 
 	"doppel/api"
 	"doppel/code"
+	"doppel/sample"
 )
 
 const plenty = 1_000_000
-
-// Instructions, written without the package that is tested: Dst and Else are -1 where they are not used.
-
-func constant(dst, n int) api.Instr {
-	return api.Instr{Kind: api.Const, Dst: dst, N: n, Else: -1}
-}
-
-func unary(op api.Op, dst, a int) api.Instr {
-	return api.Instr{Kind: api.Unary, Op: op, Dst: dst, A: a, Else: -1}
-}
-
-func binary(op api.Op, dst, a, b int) api.Instr {
-	return api.Instr{Kind: api.Binary, Op: op, Dst: dst, A: a, B: b, Else: -1}
-}
-
-func copied(dst, a int) api.Instr { return api.Instr{Kind: api.Copy, Dst: dst, A: a, Else: -1} }
-
-func frame(dst, n int) api.Instr { return api.Instr{Kind: api.Frame, Dst: dst, N: n, Else: -1} }
-
-func load(dst, a int) api.Instr { return api.Instr{Kind: api.Load, Dst: dst, A: a, Else: -1} }
-
-func store(a, b int) api.Instr { return api.Instr{Kind: api.Store, Dst: -1, A: a, B: b, Else: -1} }
-
-func call(dst int, name string, arguments ...int) api.Instr {
-	i := api.Instr{Kind: api.Call, Dst: dst, Text: name, N: len(arguments), Else: -1}
-	copy(i.Args[:], arguments)
-	return i
-}
-
-func getc(dst int) api.Instr { return api.Instr{Kind: api.Getc, Dst: dst, Else: -1} }
-
-func putc(a int) api.Instr { return api.Instr{Kind: api.Putc, Dst: -1, A: a, Else: -1} }
-
-func jump(to int) api.Instr { return api.Instr{Kind: api.Jump, Dst: -1, To: to, Else: -1} }
-
-func branch(a, to, otherwise int) api.Instr {
-	return api.Instr{Kind: api.Branch, Dst: -1, A: a, To: to, Else: otherwise}
-}
-
-func give(a int) api.Instr { return api.Instr{Kind: api.Return, Dst: -1, A: a, Else: -1} }
-
-// kinds is an instruction of each kind, in their order.
-func kinds() []api.Instr {
-	return []api.Instr{constant(0, 5), unary(api.Not, 1, 0), binary(api.Sub, 1, 2, 3), copied(2, 1), frame(0, 3), load(1, 2), store(1, 2), call(1, "g", 2, 3), getc(3), putc(2), jump(1), branch(2, 1, 2), give(3)}
-}
-
-func function(name string, params, regs, frame int, l ...api.Instr) api.Func {
-	return api.Func{Name: name, Params: params, Regs: regs, Frame: frame, Code: l}
-}
 
 // unit is a unit without globals: its frames begin at word 1.
 func unit(l ...api.Func) api.Unit { return api.Unit{Funcs: l, Top: 1} }
 
 // alone is a unit whose main has four registers and no frame.
-func alone(l ...api.Instr) api.Unit { return unit(function("main", 0, 4, 0, l...)) }
+func alone(l ...api.Instr) api.Unit { return unit(sample.Func("main", 0, 4, 0, l...)) }
 
 // with is a unit with globals.
 func with(u api.Unit, top int, globals ...api.Global) api.Unit {

@@ -7,6 +7,7 @@ import (
 
 	"doppel/api"
 	"doppel/code"
+	"doppel/sample"
 )
 
 func holdUnit(t *testing.T, what string, u api.Unit, right bool) {
@@ -23,7 +24,7 @@ func holdUnit(t *testing.T, what string, u api.Unit, right bool) {
 func many(n int) []api.Func {
 	var l []api.Func
 	for k := range n {
-		l = append(l, function("f"+number(k), 0, 1, 0, give(0)))
+		l = append(l, sample.Func("f"+number(k), 0, 1, 0, sample.Return(0)))
 	}
 	return l
 }
@@ -52,7 +53,7 @@ func TestRightNames(t *testing.T) {
 	l := many(64)
 	l[63].Name = "f0"
 	holdUnit(t, "two of one name of 64", unit(l...), false)
-	main := function("main", 0, 1, 0, constant(0, 5), give(0))
+	main := sample.Func("main", 0, 1, 0, sample.Const(0, 5), sample.Return(0))
 	holdUnit(t, "a main", unit(main), true)
 	holdUnit(t, "two that are the same", unit(main, main), false)
 	holdUnit(t, "a global with the name of a function", with(unit(main), 2, api.Global{Name: "main", At: 1, Size: 1}), true)
@@ -74,30 +75,30 @@ func TestRightFunctions(t *testing.T) {
 // TestRightCalls has calls of functions that are not there, and with other numbers of arguments.
 func TestRightCalls(t *testing.T) {
 	for params := range 7 {
-		f := function("f", params, 6, 0, give(0))
+		f := sample.Func("f", params, 6, 0, sample.Return(0))
 		for n := range 7 {
-			i := call(0, "f", []int{5, 4, 3, 2, 1, 0}[:n]...)
+			i := sample.Call(0, "f", []int{5, 4, 3, 2, 1, 0}[:n]...)
 			right := n == params
-			caller := function("main", 0, 6, 0, give(0), i, give(0))
+			caller := sample.Func("main", 0, 6, 0, sample.Return(0), i, sample.Return(0))
 			holdUnit(t, number(n)+" arguments for "+number(params), unit(f, caller), right)
 			holdUnit(t, number(n)+" arguments for "+number(params)+", behind it", unit(caller, f), right)
-			holdUnit(t, number(n)+" arguments for itself", unit(function("f", params, 6, 0, i, give(0))), right)
-			holdUnit(t, "two calls", unit(f, function("main", 0, 6, 0, call(-1, "f", make([]int, params)...), i, give(0))), right)
+			holdUnit(t, number(n)+" arguments for itself", unit(sample.Func("f", params, 6, 0, i, sample.Return(0))), right)
+			holdUnit(t, "two calls", unit(f, sample.Func("main", 0, 6, 0, sample.Call(-1, "f", make([]int, params)...), i, sample.Return(0))), right)
 		}
 	}
-	f := function("f", 0, 1, 0, give(0))
+	f := sample.Func("f", 0, 1, 0, sample.Return(0))
 	for _, name := range []string{"g", "F", "f ", " f", "ff", "main\x00", "\xff"} {
-		holdUnit(t, "a call of "+name, unit(f, function("main", 0, 1, 0, call(0, name), give(0))), false)
-		holdUnit(t, "a call of "+name+" that is never reached", unit(f, function("main", 0, 1, 0, give(0), call(0, name), give(0))), false)
-		holdUnit(t, "a call of a global", with(unit(function("main", 0, 1, 0, call(0, name), give(0))), 2, api.Global{Name: name, At: 1, Size: 1}), false)
-		g := function(name, 0, 1, 0, give(0))
-		holdUnit(t, "a call of "+name+" that is there", unit(f, g, function("main", 0, 1, 0, call(0, name), give(0))), true)
+		holdUnit(t, "a call of "+name, unit(f, sample.Func("main", 0, 1, 0, sample.Call(0, name), sample.Return(0))), false)
+		holdUnit(t, "a call of "+name+" that is never reached", unit(f, sample.Func("main", 0, 1, 0, sample.Return(0), sample.Call(0, name), sample.Return(0))), false)
+		holdUnit(t, "a call of a global", with(unit(sample.Func("main", 0, 1, 0, sample.Call(0, name), sample.Return(0))), 2, api.Global{Name: name, At: 1, Size: 1}), false)
+		g := sample.Func(name, 0, 1, 0, sample.Return(0))
+		holdUnit(t, "a call of "+name+" that is there", unit(f, g, sample.Func("main", 0, 1, 0, sample.Call(0, name), sample.Return(0))), true)
 	}
 }
 
 // TestRightGlobals has Top, and the At, Size and Init of globals, at both ends and beyond.
 func TestRightGlobals(t *testing.T) {
-	u := alone(give(0))
+	u := alone(sample.Return(0))
 	global := func(at, size, value int) api.Global { return api.Global{Name: "g", At: at, Size: size, Init: value} }
 	for _, top := range edges() {
 		right := top >= 1 && top <= 4096

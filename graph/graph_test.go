@@ -4,9 +4,9 @@ import (
 	"slices"
 	"testing"
 
-	"doppel/api"
 	"doppel/code"
 	"doppel/graph"
+	"doppel/sample"
 )
 
 // drawing is a function, and what is to be told of it.
@@ -131,52 +131,7 @@ func TestNotReached(t *testing.T) {
 
 // TestNone has functions that may not be, for each rule: nothing is told of them.
 func TestNone(t *testing.T) {
-	for what, change := range map[string]func(f *api.Func){
-		"no name":                       func(f *api.Func) { f.Name = "" },
-		"Params of -1":                  func(f *api.Func) { f.Params = -1 },
-		"Params of 7":                   func(f *api.Func) { f.Params, f.Regs = 7, 10 },
-		"more Params than Regs":         func(f *api.Func) { f.Params = 5 },
-		"Regs of 4097":                  func(f *api.Func) { f.Regs = 4097 },
-		"no Regs":                       func(f *api.Func) { f.Params, f.Regs = 0, 0 },
-		"Regs of -1":                    func(f *api.Func) { f.Params, f.Regs = -1, -1 },
-		"a Frame of -1":                 func(f *api.Func) { f.Frame = -1 },
-		"a Frame of 4097":               func(f *api.Func) { f.Frame = 4097 },
-		"no instructions":               func(f *api.Func) { f.Code = nil },
-		"too many instructions":         func(f *api.Func) { f.Code = slices.Repeat([]api.Instr{jump(0)}, 8193) },
-		"an end that goes on":           func(f *api.Func) { f.Code = f.Code[:len(f.Code)-1] },
-		"a kind of 0":                   func(f *api.Func) { f.Code[0].Kind = 0 },
-		"a kind of 14":                  func(f *api.Func) { f.Code[0].Kind = 14 },
-		"a kind of -1":                  func(f *api.Func) { f.Code[0].Kind = -1 },
-		"an unknown kind, not reached":  func(f *api.Func) { f.Code[5].Kind = 99 },
-		"a Jump to -1":                  func(f *api.Func) { f.Code[1].To = -1 },
-		"a Jump behind the end":         func(f *api.Func) { f.Code[1].To = len(f.Code) },
-		"a Jump far behind the end":     func(f *api.Func) { f.Code[1].To = 1 << 40 },
-		"a Branch to -1":                func(f *api.Func) { f.Code[3].To = -1 },
-		"a Branch behind the end":       func(f *api.Func) { f.Code[3].To = len(f.Code) },
-		"an Else of -1":                 func(f *api.Func) { f.Code[3].Else = -1 },
-		"an Else behind the end":        func(f *api.Func) { f.Code[3].Else = len(f.Code) },
-		"a Jump to -1, not reached":     func(f *api.Func) { f.Code[5] = jump(-1) },
-		"a register of -1":              func(f *api.Func) { f.Code[0].Dst = -1 },
-		"a register too high":           func(f *api.Func) { f.Code[3].A = 4 },
-		"no word":                       func(f *api.Func) { f.Code[0].N = 1 << 31 },
-		"an Op where there is none":     func(f *api.Func) { f.Code[0].Op = api.Add },
-		"a Text where there is none":    func(f *api.Func) { f.Code[1].Text = "f" },
-		"an Else of a Jump":             func(f *api.Func) { f.Code[1].Else = 0 },
-		"a To of a Return":              func(f *api.Func) { f.Code[4].To = 1 },
-		"Args where there are none":     func(f *api.Func) { f.Code[1].Args[5] = 1 },
-		"an operation that is none":     func(f *api.Func) { f.Code[2] = api.Instr{Kind: api.Unary, Op: api.Add, Else: -1} },
-		"a word too far for the Frame":  func(f *api.Func) { f.Code[2] = api.Instr{Kind: api.Frame, N: 4, Else: -1} },
-		"a Call of nothing":             func(f *api.Func) { f.Code[2] = api.Instr{Kind: api.Call, Dst: -1, Else: -1} },
-		"a Call with too many":          func(f *api.Func) { f.Code[2] = api.Instr{Kind: api.Call, Dst: -1, Else: -1, Text: "g", N: 7} },
-		"a Call of less than nothing":   func(f *api.Func) { f.Code[2] = api.Instr{Kind: api.Call, Dst: -1, Else: -1, Text: "g", N: -1} },
-		"nothing at all":                func(f *api.Func) { *f = api.Func{} },
-		"instructions, nothing besides": func(f *api.Func) { *f = api.Func{Code: f.Code} },
-	} {
-		f := drawn(". j2 . b0,4 r . r")
-		if !code.RightFunc(f) {
-			t.Fatal("not valid")
-		}
-		change(&f)
+	for what, f := range sample.Wrong() {
 		if code.RightFunc(f) {
 			t.Fatal("valid: " + what)
 		}
@@ -187,7 +142,7 @@ func TestNone(t *testing.T) {
 // TestLoopOfOthers has a Loop of indexes that are no heads; told asks for those that are no instructions, too.
 func TestLoopOfOthers(t *testing.T) {
 	f := drawn("b1,2 j0 r j4 j3")
-	for _, at := range append(huge(), -1, 1, 2, 3, 4, 5) {
+	for _, at := range append(sample.Huge(), -1, 1, 2, 3, 4, 5) {
 		same(t, "Loop of "+number(at), graph.Loop(f, at), nil)
 		// 3 and 4 go round, but nothing leads to them.
 		if graph.Dominates(f, at, at) != (at == 1 || at == 2) {

@@ -9,6 +9,7 @@ import (
 	"doppel/api"
 	"doppel/code"
 	"doppel/graph"
+	"doppel/sample"
 )
 
 const most = 8192
@@ -64,7 +65,7 @@ func TestLongStraight(t *testing.T) {
 		}),
 		"a loop of all": each(func(at int) api.Instr {
 			if at == most-1 {
-				return jump(0)
+				return sample.Jump(0)
 			}
 			return straight()[at%10]
 		}),
@@ -114,7 +115,7 @@ func TestLongLoops(t *testing.T) {
 		case at <= many:
 			return branch(at+1, 2*many+2-at)
 		case at < most-1:
-			return jump(2*many + 1 - at)
+			return sample.Jump(2*many + 1 - at)
 		}
 		return give()
 	})
@@ -151,9 +152,9 @@ func TestLongBranches(t *testing.T) {
 		case 0:
 			return branch(1, most-1)
 		case 1:
-			return jump(2)
+			return sample.Jump(2)
 		case most - 1:
-			return jump(most - 2)
+			return sample.Jump(most - 2)
 		}
 		return branch(at-1, at+1)
 	})
@@ -174,7 +175,7 @@ func TestLongBranches(t *testing.T) {
 		case at%4 == 0:
 			return branch(at+1, at+2)
 		case at%4 == 1:
-			return jump(at + 2)
+			return sample.Jump(at + 2)
 		}
 		return straight()[at%10]
 	})

@@ -6,53 +6,33 @@ import (
 	"testing"
 
 	"doppel/api"
+	"doppel/sample"
 )
-
-// whole is a list with the room behind it.
-func whole[T any](l []T) []T { return l[:cap(l)] }
-
-// spoil changes all of a list, and the room behind it.
-func spoil[T any](l []T, mark T) {
-	for k := range whole(l) {
-		whole(l)[k] = mark
-	}
-}
-
-// roomy is a function with room behind its instructions, all of which has a mark.
-func roomy(f api.Func) api.Func {
-	more := make([]api.Instr, len(f.Code)+5)
-	for k := range more {
-		more[k] = api.Instr{Text: "mark"}
-	}
-	copy(more, f.Code)
-	f.Code = more[:len(f.Code)]
-	return f
-}
 
 // spoilAll changes what is told, a result at a time, and holds that all others are as they were.
 func spoilAll(t *testing.T, f api.Func) {
 	got, want := told(f), told(f)
 	for k := range got.before {
-		spoil(got.before[k], -9)
+		sample.Spoil(got.before[k], -9)
 		got.before[k], want.before[k] = nil, nil
 		if !reflect.DeepEqual(got, want) {
 			t.Fatal("Before has memory in common:", show(f))
 		}
 	}
-	spoil(got.before, []int{-9})
-	spoil(got.order, -9)
-	spoil(got.above, -9)
-	spoil(got.heads, -9)
+	sample.Spoil(got.before, []int{-9})
+	sample.Spoil(got.order, -9)
+	sample.Spoil(got.above, -9)
+	sample.Spoil(got.heads, -9)
 	for head := range got.loops {
-		spoil(got.loops[head], -9)
+		sample.Spoil(got.loops[head], -9)
 		delete(got.loops, head)
 		for other := range got.loops {
 			same(t, show(f)+": Loop", got.loops[other], want.loops[other])
 		}
 	}
 	same(t, show(f)+": Reached", got.reached, want.reached)
-	for k := range whole(got.reached) {
-		whole(got.reached)[k] = !whole(got.reached)[k]
+	for k := range sample.Whole(got.reached) {
+		sample.Whole(got.reached)[k] = !sample.Whole(got.reached)[k]
 	}
 }
 
@@ -64,10 +44,10 @@ func TestMemory(t *testing.T) {
 		l = append(l, anyOf(random, 1+random.Intn(20)))
 	}
 	for _, plain := range l {
-		f := roomy(plain)
+		f := sample.Roomy(plain)
 		before := told(plain)
 		spoilAll(t, f)
-		if again := roomy(plain); !reflect.DeepEqual(whole(f.Code), whole(again.Code)) || f.Name != again.Name || f.Params != again.Params || f.Regs != again.Regs || f.Frame != again.Frame {
+		if again := sample.Roomy(plain); !reflect.DeepEqual(sample.Whole(f.Code), sample.Whole(again.Code)) || f.Name != again.Name || f.Params != again.Params || f.Regs != again.Regs || f.Frame != again.Frame {
 			t.Fatal("the function is changed: ", show(plain))
 		}
 		holds(t, show(plain)+", afterwards", f, before)

@@ -8,6 +8,7 @@ import (
 	"doppel/api"
 	"doppel/code"
 	"doppel/graph"
+	"doppel/sample"
 )
 
 // model tells of a function what the chapter says, word by word: it goes all paths.
@@ -143,7 +144,7 @@ func anyOf(random *rand.Rand, many int) api.Func {
 		case n == 9 && random.Intn(2) == 0:
 			l = append(l, give())
 		case n > 7 || at == many-1:
-			l = append(l, jump(target(at)))
+			l = append(l, sample.Jump(target(at)))
 		default:
 			l = append(l, straight()[random.Intn(10)])
 		}
@@ -197,7 +198,7 @@ func TestEverySmall(t *testing.T) {
 	for many := 1; many <= 4; many++ {
 		sorts := []api.Instr{give()}
 		for to := range many {
-			sorts = append(sorts, jump(to))
+			sorts = append(sorts, sample.Jump(to))
 			for otherwise := range many {
 				// Each Branch of three, but only those to one and the next one of four.
 				if many < 4 || otherwise == (to+1)%many {
@@ -318,6 +319,6 @@ func TestUnlikeSearches(t *testing.T) {
 				}
 			}
 		}
-		same(t, show(f)+": Before", lists(graph.Before(f)), before)
+		same(t, show(f)+": Before", sample.Lists(graph.Before(f)), before)
 	}
 }

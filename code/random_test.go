@@ -21,7 +21,7 @@ func TestRuns(t *testing.T) {
 		}
 		for _, fuel := range []int{0, 1, 2, 3, 5, 8, 13, 21, 40, 100, 2000} {
 			input := "a\x00\xffb"[:fuel%5]
-			got, want := code.Run(u, []byte(input), fuel), modelRun(u, input, fuel)
+			got, want := code.Run(u, []byte(input), fuel), sample.Run(u, input, fuel, func(api.Func, int, []int) {})
 			if !equal(got, want) {
 				t.Fatalf("%d: with a fuel of %d: %s; wanted %s", seed, fuel, show(got), show(want))
 			}

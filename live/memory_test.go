@@ -35,7 +35,7 @@ func TestMemory(t *testing.T) {
 	l := []api.Func{{}, function(sample.Return(0)), function(sample.Jump(0)), function(sample.Jump(7)), function(dead(), sample.Return(1))}
 	for seed := range 300 {
 		numbers := &sample.Numbers{Seed: uint64(seed)}
-		l = append(l, anyOf(numbers, 1+numbers.Below(20), 1+numbers.Below(9)))
+		l = append(l, numbers.Anyhow(1+numbers.Below(20), 1+numbers.Below(9)))
 	}
 	for _, f := range sample.Wrong() {
 		l = append(l, f)
@@ -53,10 +53,10 @@ func TestMemory(t *testing.T) {
 
 // TestSameTwice holds that what is told hangs on the argument alone.
 func TestSameTwice(t *testing.T) {
-	f := anyOf(&sample.Numbers{Seed: 5}, 60, 9)
+	f := (&sample.Numbers{Seed: 5}).Anyhow(60, 9)
 	first := told(f)
 	for seed := range 30 {
-		told(anyOf(&sample.Numbers{Seed: uint64(seed)}, 40, 12))
+		told((&sample.Numbers{Seed: uint64(seed)}).Anyhow(40, 12))
 		holds(t, "again", f, first)
 		// The name makes no difference, but that it is swept's name, too.
 		f.Name = "g" + number(seed)

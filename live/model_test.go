@@ -137,30 +137,12 @@ func (m model) tells(numbers *sample.Numbers) all {
 	return l
 }
 
-// anyOf makes a function of pseudo-random instructions, of all kinds, with edges anywhere.
-func anyOf(numbers *sample.Numbers, many, registers int) api.Func {
-	f := sample.Func("f", numbers.Below(min(registers, api.MaxParams)+1), registers, 3)
-	jumps, pure := 1+numbers.Below(5), numbers.Below(10)
-	to := func() int { return numbers.Below(many) }
-	for len(f.Code) < many {
-		kind := 1 + numbers.Below(api.Putc)
-		switch n := numbers.Below(10); {
-		case n < jumps || len(f.Code) == many-1:
-			kind = api.Jump + numbers.Below(3)
-		case n < pure:
-			kind = []int{api.Unary, api.Binary, api.Copy, api.Const}[numbers.Below(4)]
-		}
-		f.Code = append(f.Code, numbers.Instr(f, kind, []int{0, 1, 2, 3, 6}, to))
-	}
-	return f
-}
-
 // TestSmall holds that all is as the chapter says of it, for pseudo-random functions of up to nine instructions.
 func TestSmall(t *testing.T) {
 	seen := map[string]int{}
 	for seed := range 6000 {
 		numbers := &sample.Numbers{Seed: uint64(seed)}
-		f := anyOf(numbers, 1+numbers.Below(9), 1+numbers.Below(4))
+		f := numbers.Anyhow(1+numbers.Below(9), 1+numbers.Below(4))
 		if !code.RightFunc(f) {
 			t.Fatal("not valid:", show(f))
 		}
@@ -196,7 +178,7 @@ func TestSmall(t *testing.T) {
 func TestMiddling(t *testing.T) {
 	for seed := range 60 {
 		numbers := &sample.Numbers{Seed: uint64(70_000 + seed)}
-		f := anyOf(numbers, 10+numbers.Below(12), 1+numbers.Below(8))
+		f := numbers.Anyhow(10+numbers.Below(12), 1+numbers.Below(8))
 		if holds(t, show(f), f, model{f}.tells(numbers)); t.Failed() {
 			t.Fatal("seed", seed)
 		}
@@ -215,7 +197,7 @@ func TestEverySmall(t *testing.T) {
 				sorts = append(sorts, sample.Branch(otherwise%2, to, otherwise))
 			}
 		}
-		everyRow(many, len(sorts), func(places []int) {
+		for places := range sample.Rows(many, len(sorts)) {
 			f := sample.Func("f", 1, 2, 0)
 			for _, n := range places {
 				f.Code = append(f.Code, sorts[n])
@@ -223,22 +205,6 @@ func TestEverySmall(t *testing.T) {
 			if code.RightFunc(f) && !t.Failed() {
 				holds(t, show(f), f, model{f}.tells(&sample.Numbers{}))
 			}
-		})
-	}
-}
-
-// everyRow shows every row of so many numbers below a limit.
-func everyRow(many, limit int, show func(row []int)) {
-	row := make([]int, many)
-	for {
-		show(row)
-		k := 0
-		for ; k < many && row[k] == limit-1; k++ {
-			row[k] = 0
 		}
-		if k == many {
-			return
-		}
-		row[k]++
 	}
 }

@@ -1,4 +1,4 @@
-// Package sample makes instructions, functions and units for the tests of the layers.
+// Package sample makes instructions, functions and units for the tests of the layers, and runs units another way.
 package sample
 
 import "doppel/api"

@@ -1,6 +1,9 @@
 package sample
 
-import "math"
+import (
+	"iter"
+	"math"
+)
 
 // Numbers is a row of pseudo-random numbers, always the same one from the same Seed.
 type Numbers struct{ Seed uint64 }
@@ -28,4 +31,21 @@ func (n *Numbers) Word() int {
 // Huge is numbers that are never places or registers; 32 bits of some of them are those of a small number.
 func Huge() []int {
 	return []int{math.MinInt, math.MinInt + 1, -1 << 32, 1 - 1<<32, -1 << 31, -1 << 13, 1 << 13, 1<<31 - 1, 1 << 31, 1 << 32, 1<<32 + 1, 1<<32 + 3, math.MaxInt - 1, math.MaxInt}
+}
+
+// Rows is every row of so many numbers below a limit, in the same memory.
+func Rows(many, limit int) iter.Seq[[]int] {
+	return func(show func(row []int) bool) {
+		row := make([]int, many)
+		for show(row) {
+			k := 0
+			for ; k < many && row[k] == limit-1; k++ {
+				row[k] = 0
+			}
+			if k == many {
+				return
+			}
+			row[k]++
+		}
+	}
 }

@@ -53,6 +53,24 @@ func (n *Numbers) Func(k int, params []int) api.Func {
 	return f
 }
 
+// Anyhow is a valid function of many instructions, of all kinds, with edges anywhere.
+func (n *Numbers) Anyhow(many, registers int) api.Func {
+	f := Func("f", n.Below(min(registers, api.MaxParams)+1), registers, 3)
+	jumps, pure := 1+n.Below(5), n.Below(10)
+	to := func() int { return n.Below(many) }
+	for len(f.Code) < many {
+		kind := 1 + n.Below(api.Putc)
+		switch k := n.Below(10); {
+		case k < jumps || len(f.Code) == many-1:
+			kind = api.Jump + n.Below(3)
+		case k < pure:
+			kind = []int{api.Unary, api.Binary, api.Copy, api.Const}[n.Below(4)]
+		}
+		f.Code = append(f.Code, n.Instr(f, kind, []int{0, 1, 2, 3, 6}, to))
+	}
+	return f
+}
+
 // onward is an instruction of a kind, behind those of a function that is to have many, or a Const in place of a Return that would end it early. Most jumps lead on, if there is room.
 func (n *Numbers) onward(f api.Func, kind, many int, params []int) api.Instr {
 	if kind == api.Return && len(f.Code) < many/2 {

@@ -1,13 +1,14 @@
-package code_test
+package sample
 
 import (
 	"doppel/api"
 	"doppel/word"
 )
 
-// model runs a unit otherwise than the package does: each call is a call of Go's, with a list of registers of its own.
+// model runs a unit otherwise than package code does: each call is a call of Go's, with a list of registers of its own.
 type model struct {
 	unit   api.Unit
+	watch  func(f api.Func, at int, registers []int)
 	memory map[int]int
 	free   int
 	input  []byte
@@ -18,8 +19,9 @@ type model struct {
 // over is what ends a run within calls.
 type over struct{}
 
-func modelRun(u api.Unit, input string, fuel int) (r api.Result) {
-	m := &model{unit: u, memory: map[int]int{}, free: u.Top, input: []byte(input), fuel: fuel}
+// Run is what comes of a valid unit with a main. Each instruction is shown to watch just before it is done, with the registers as they are then.
+func Run(u api.Unit, input string, fuel int, watch func(f api.Func, at int, registers []int)) (r api.Result) {
+	m := &model{unit: u, watch: watch, memory: map[int]int{}, free: u.Top, input: []byte(input), fuel: fuel}
 	defer func() {
 		if e := recover(); e != nil {
 			_ = e.(over)
@@ -29,8 +31,7 @@ func modelRun(u api.Unit, input string, fuel int) (r api.Result) {
 	for _, g := range u.Globals {
 		m.memory[g.At] = g.Init
 	}
-	code := m.function("main", nil)
-	m.end(api.Exit, code)
+	m.end(api.Exit, m.function("main", nil))
 	return
 }
 
@@ -60,6 +61,7 @@ func (m *model) function(name string, arguments []int) int {
 			m.end(api.Spent, 0)
 		}
 		m.fuel--
+		m.watch(f, at, l)
 		i := f.Code[at]
 		at++
 		switch i.Kind {

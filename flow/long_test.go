@@ -13,16 +13,6 @@ import (
 // room is the greatest number of instructions times one more than the number of registers.
 const room = 1 << 16
 
-// long makes a function without parameters; the last instruction is given.
-func long(many, registers int, last api.Instr, make func(at int) api.Instr) api.Func {
-	f := sample.Func("f", 0, registers, 0)
-	for at := range many - 1 {
-		f.Code = append(f.Code, make(at))
-	}
-	f.Code = append(f.Code, last)
-	return f
-}
-
 // inTime holds that something is done within seconds. (It takes much less than one; there is much room for a slow machine.)
 func inTime(t *testing.T, what string, do func()) {
 	t.Helper()
@@ -63,9 +53,9 @@ func TestRoom(t *testing.T) {
 		{api.MaxCode, 7}, {api.MaxCode, 8}, {api.MaxCode, 6}, {7281, 8}, {7282, 8}, {256, 255}, {257, 255}, {256, 256}, {255, 256}, {331, 197}, {16, 4095}, {17, 4095}, {16, 4096}, {15, 4096}, {api.MaxCode, api.MaxRegs}, {1, api.MaxRegs}, {2, api.MaxRegs}, {api.MaxCode, 1}, {api.MaxCode, 0}, {1, 0}, {32, 2047}, {33, 2047}, {32, 2048}, {4096, 15}, {4097, 15}, {4096, 16},
 	} {
 		what := number(c.many) + " instructions, " + number(c.registers) + " registers"
-		f := long(c.many, c.registers, sample.Jump(0), func(at int) api.Instr { return sample.Copy(at%max(c.registers, 1), 0) })
+		f := sample.Long(c.many, c.registers, sample.Jump(0), func(at int) api.Instr { return sample.Copy(at%max(c.registers, 1), 0) })
 		if c.registers == 0 {
-			f = long(c.many, 0, sample.Jump(0), func(at int) api.Instr { return sample.Jump(at + 1) })
+			f = sample.Long(c.many, 0, sample.Jump(0), func(at int) api.Instr { return sample.Jump(at + 1) })
 		}
 		if !code.RightFunc(f) {
 			t.Fatal(what + ": not valid")
@@ -100,7 +90,7 @@ func TestLongLoops(t *testing.T) {
 		what := number(c.many) + " instructions, " + number(c.registers) + " registers"
 		// Each round only one more is not known, as what is copied goes the other way.
 		chain := min(c.many-2, c.registers-1)
-		back := long(c.many, c.registers, sample.Jump(0), func(at int) api.Instr {
+		back := sample.Long(c.many, c.registers, sample.Jump(0), func(at int) api.Instr {
 			switch {
 			case at < chain:
 				return sample.Copy(chain-at, chain-at-1)
@@ -111,7 +101,7 @@ func TestLongLoops(t *testing.T) {
 		})
 		counts(t, what+", against the loop", back, 0, c.many*(c.registers-chain-1), c.many*(chain+1), 0)
 		// Each instruction leads to the beginning and to the end, too.
-		ways := long(c.many, c.registers, sample.Branch(0, 0, c.many-1), func(at int) api.Instr {
+		ways := sample.Long(c.many, c.registers, sample.Branch(0, 0, c.many-1), func(at int) api.Instr {
 			if at%2 == 0 {
 				return sample.Getc(at / 2 % c.registers)
 			}
@@ -133,7 +123,7 @@ func TestLongLoops(t *testing.T) {
 // TestLongStraight has functions at the limit without a loop.
 func TestLongStraight(t *testing.T) {
 	const many, registers = api.MaxCode, 7
-	sum := long(many, registers, sample.Return(0), func(at int) api.Instr {
+	sum := sample.Long(many, registers, sample.Return(0), func(at int) api.Instr {
 		if at == 0 {
 			return sample.Const(1, 3)
 		}
@@ -143,15 +133,15 @@ func TestLongStraight(t *testing.T) {
 	if last := flow.Ahead(sum)[many-1][0]; last != (value{flow.Known, 3 * (many - 2)}) {
 		t.Error("the sum is", last)
 	}
-	counts(t, "edges to the end", long(many, registers, sample.Return(0), func(int) api.Instr { return sample.Branch(0, many-1, many-1) }), (many-2)*registers, 2*registers, 0, 1)
-	counts(t, "one Branch after another", long(many, registers, sample.Return(0), func(at int) api.Instr { return sample.Branch(0, many-1, at+1) }), 0, many*registers, 0, many-1)
-	counts(t, "one Branch after another, of what is not known", long(many, registers, sample.Return(0), func(at int) api.Instr {
+	counts(t, "edges to the end", sample.Long(many, registers, sample.Return(0), func(int) api.Instr { return sample.Branch(0, many-1, many-1) }), (many-2)*registers, 2*registers, 0, 1)
+	counts(t, "one Branch after another", sample.Long(many, registers, sample.Return(0), func(at int) api.Instr { return sample.Branch(0, many-1, at+1) }), 0, many*registers, 0, many-1)
+	counts(t, "one Branch after another, of what is not known", sample.Long(many, registers, sample.Return(0), func(at int) api.Instr {
 		if at == 0 {
 			return sample.Getc(0)
 		}
 		return sample.Branch(0, min(at+2, many-1), at+1)
 	}), 0, many*registers-(many-1), many-1, 0)
-	counts(t, "all back", long(many, registers, sample.Branch(0, 0, many-1), func(at int) api.Instr {
+	counts(t, "all back", sample.Long(many, registers, sample.Branch(0, 0, many-1), func(at int) api.Instr {
 		if at%2 == 0 {
 			return sample.Load(at/2%registers, 0)
 		}

@@ -27,19 +27,12 @@ func spoilAll(t *testing.T, f api.Func) {
 // TestMemory holds that no argument is changed, and that what is told is in memory of its own.
 func TestMemory(t *testing.T) {
 	l := []api.Func{{}, function(sample.Return(0)), function(sample.Jump(0)), function(sample.Copy(1, 2), sample.Return(1)), sample.Func("f", 0, 0, 0, sample.Jump(0))}
-	l = append(l, long(16, 4096, sample.Return(0), func(at int) api.Instr { return sample.Copy(0, 1) }))
-	for seed := range 500 {
-		numbers := &sample.Numbers{Seed: uint64(seed)}
-		l = append(l, numbers.Anyhow(1+numbers.Below(20), 1+numbers.Below(9)))
-	}
-	for _, f := range sample.Wrong() {
-		l = append(l, f)
-	}
-	for _, plain := range l {
+	l = append(l, sample.Long(16, 4096, sample.Return(0), func(at int) api.Instr { return sample.Copy(0, 1) }))
+	for _, plain := range sample.Mixed(l...) {
 		f, again := sample.Roomy(plain), sample.Roomy(plain)
 		before := told(plain)
 		spoilAll(t, f)
-		if f.Code = sample.Whole(f.Code); !reflect.DeepEqual(f, api.Func{Name: again.Name, Params: again.Params, Regs: again.Regs, Frame: again.Frame, Code: sample.Whole(again.Code)}) {
+		if !sample.Alike(f, again) {
 			t.Fatal("the function is changed:", show(plain))
 		}
 		holds(t, show(plain)+", afterwards", again, before)

@@ -1,7 +1,6 @@
 package flow_test
 
 import (
-	"bytes"
 	"testing"
 
 	"doppel/api"
@@ -11,34 +10,20 @@ import (
 	"doppel/sample"
 )
 
-// folded is a unit with its functions folded, and how much was.
-func folded(u api.Unit) (api.Unit, int) {
-	all, n := u, 0
-	all.Funcs = nil
-	for _, f := range u.Funcs {
-		g, count := flow.Fold(f)
-		all.Funcs = append(all.Funcs, g)
-		n += count
-	}
-	return all, n
-}
-
 // behaves holds that a folded unit does what the unit does, with any fuel and any of some inputs. (An instruction takes the place of one: it uses as much.)
 func behaves(t *testing.T, what string, u api.Unit, ends map[int]int) (count int) {
 	t.Helper()
-	instead, count := folded(u)
+	instead, count := sample.Changed(u, flow.Fold)
 	if !code.Right(u) || !code.Right(instead) {
 		t.Fatal("not valid: " + what)
 	}
-	for _, input := range []string{"", "a", "\x00\xff\x01", "hello, world"} {
-		for _, fuel := range []int{0, 1, 3, 7, 20, 60, 300, 3000} {
-			a, b := code.Run(u, []byte(input), fuel), code.Run(instead, []byte(input), fuel)
-			if a.End != b.End || a.Code != b.Code || !bytes.Equal(a.Output, b.Output) {
-				t.Fatalf("%s: with %q and a fuel of %d: %v; folded %v", what, input, fuel, a, b)
-			}
-			if fuel == 3000 {
-				ends[a.End]++
-			}
+	for input, fuel := range sample.Trials() {
+		a, b := code.Run(u, []byte(input), fuel), code.Run(instead, []byte(input), fuel)
+		if !sample.Same(a, b) {
+			t.Fatalf("%s: with %q and a fuel of %d: %v; folded %v", what, input, fuel, a, b)
+		}
+		if fuel == sample.Plenty {
+			ends[a.End]++
 		}
 	}
 	return count

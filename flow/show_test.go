@@ -46,14 +46,7 @@ func drawn(text string, registers int) []value {
 	return l
 }
 
-// show draws a function: an instruction a line.
-func show(f api.Func) string {
-	lines := []string{fmt.Sprint(f.Name, ", Params ", f.Params, ", Regs ", f.Regs, ":")}
-	for at, i := range f.Code {
-		lines = append(lines, fmt.Sprint(at, ": kind ", i.Kind, " op ", i.Op, " sets ", code.Sets(i), " reads ", code.Uses(i), " n ", i.N, " next ", code.Next(i, at)))
-	}
-	return strings.Join(lines, "\n")
-}
+func show(f api.Func) string { return sample.Show(f) }
 
 // all is what the package tells of a function.
 type all struct {

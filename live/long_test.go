@@ -17,12 +17,7 @@ const (
 
 // long makes a function as long as may be, with all registers; the last instruction is given.
 func long(last api.Instr, make func(at int) api.Instr) api.Func {
-	f := sample.Func("f", 0, registers, 0)
-	for at := range most - 1 {
-		f.Code = append(f.Code, make(at))
-	}
-	f.Code = append(f.Code, last)
-	return f
+	return sample.Long(most, registers, last, make)
 }
 
 // inTime holds that something is done within seconds. (It takes much less than one; there is much room for a slow machine.)

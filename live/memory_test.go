@@ -32,19 +32,11 @@ func spoilAll(t *testing.T, f api.Func) {
 
 // TestMemory holds that no argument is changed, and that what is told is in memory of its own.
 func TestMemory(t *testing.T) {
-	l := []api.Func{{}, function(sample.Return(0)), function(sample.Jump(0)), function(sample.Jump(7)), function(dead(), sample.Return(1))}
-	for seed := range 300 {
-		numbers := &sample.Numbers{Seed: uint64(seed)}
-		l = append(l, numbers.Anyhow(1+numbers.Below(20), 1+numbers.Below(9)))
-	}
-	for _, f := range sample.Wrong() {
-		l = append(l, f)
-	}
-	for _, plain := range l {
+	for _, plain := range sample.Mixed(api.Func{}, function(sample.Return(0)), function(sample.Jump(0)), function(sample.Jump(7)), function(dead(), sample.Return(1))) {
 		f, again := sample.Roomy(plain), sample.Roomy(plain)
 		before := told(plain)
 		spoilAll(t, f)
-		if f.Code = sample.Whole(f.Code); !reflect.DeepEqual(f, api.Func{Name: again.Name, Params: again.Params, Regs: again.Regs, Frame: again.Frame, Code: sample.Whole(again.Code)}) {
+		if !sample.Alike(f, again) {
 			t.Fatal("the function is changed:", show(plain))
 		}
 		holds(t, show(plain)+", afterwards", again, before)

@@ -10,34 +10,20 @@ import (
 	"doppel/sample"
 )
 
-// swept is a unit with its functions swept, and how much has gone.
-func swept(u api.Unit) (api.Unit, int) {
-	all, n := u, 0
-	all.Funcs = nil
-	for _, f := range u.Funcs {
-		g, gone := live.Sweep(f)
-		all.Funcs = append(all.Funcs, g)
-		n += gone
-	}
-	return all, n
-}
-
 // behaves holds that a swept unit does what the unit does, with any fuel and any of some inputs; it is never slower.
 func behaves(t *testing.T, what string, u api.Unit, ends map[int]int) (gone int) {
 	t.Helper()
-	less, gone := swept(u)
+	less, gone := sample.Changed(u, live.Sweep)
 	if !code.Right(u) || !code.Right(less) {
 		t.Fatal("not valid: " + what)
 	}
-	for _, input := range []string{"", "a", "\x00\xff\x01", "hello, world"} {
-		for _, fuel := range []int{0, 1, 3, 7, 20, 60, 300, 3000} {
-			a, b := code.Run(u, []byte(input), fuel), code.Run(less, []byte(input), fuel)
-			if !sample.Agree(a, b) || a.End != api.Spent && b.End == api.Spent {
-				t.Fatalf("%s: with %q and a fuel of %d: %v; swept %v", what, input, fuel, a, b)
-			}
-			if fuel == 3000 {
-				ends[a.End]++
-			}
+	for input, fuel := range sample.Trials() {
+		a, b := code.Run(u, []byte(input), fuel), code.Run(less, []byte(input), fuel)
+		if !sample.Agree(a, b) || a.End != api.Spent && b.End == api.Spent {
+			t.Fatalf("%s: with %q and a fuel of %d: %v; swept %v", what, input, fuel, a, b)
+		}
+		if fuel == sample.Plenty {
+			ends[a.End]++
 		}
 	}
 	return gone

@@ -4,7 +4,6 @@ import (
 	"fmt"
 	"reflect"
 	"strconv"
-	"strings"
 	"testing"
 
 	"doppel/api"
@@ -18,14 +17,7 @@ func function(l ...api.Instr) api.Func { return sample.Func("f", 2, 6, 3, l...) 
 
 func number(n int) string { return strconv.Itoa(n) }
 
-// show draws a function: an instruction a line.
-func show(f api.Func) string {
-	lines := []string{f.Name + ":"}
-	for at, i := range f.Code {
-		lines = append(lines, fmt.Sprint(at, ": kind ", i.Kind, " sets ", code.Sets(i), " reads ", code.Uses(i), " next ", code.Next(i, at), " op ", i.Op, " n ", i.N))
-	}
-	return strings.Join(lines, "\n")
-}
+func show(f api.Func) string { return sample.Show(f) }
 
 // each reads lists of registers, in which there is one digit a register.
 func each(texts ...string) [][]int {

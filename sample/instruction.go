@@ -63,3 +63,13 @@ func Kinds() []api.Instr {
 func Func(name string, params, regs, frame int, l ...api.Instr) api.Func {
 	return api.Func{Name: name, Params: params, Regs: regs, Frame: frame, Code: l}
 }
+
+// Long is a function of many instructions without parameters and without a frame; the last instruction is given.
+func Long(many, registers int, last api.Instr, make func(at int) api.Instr) api.Func {
+	f := Func("f", 0, registers, 0)
+	for at := range many - 1 {
+		f.Code = append(f.Code, make(at))
+	}
+	f.Code = append(f.Code, last)
+	return f
+}

@@ -25,6 +25,11 @@ func Roomy(f api.Func) api.Func {
 	return f
 }
 
+// Alike tells whether functions are the same, also in the room behind their instructions.
+func Alike(f, g api.Func) bool {
+	return f.Name == g.Name && f.Params == g.Params && f.Regs == g.Regs && f.Frame == g.Frame && slices.Equal(f.Code, g.Code) && slices.Equal(Whole(f.Code), Whole(g.Code))
+}
+
 // Lists is a list of lists with nil for each empty one.
 func Lists[T any](l [][]T) [][]T {
 	l = slices.Clone(l)

@@ -1,6 +1,8 @@
 package sample
 
 import (
+	"maps"
+	"slices"
 	"strconv"
 
 	"doppel/api"
@@ -69,6 +71,20 @@ func (n *Numbers) Anyhow(many, registers int) api.Func {
 		f.Code = append(f.Code, n.Instr(f, kind, []int{0, 1, 2, 3, 6}, to))
 	}
 	return f
+}
+
+// Mixed is functions of all sorts: some that are given, some of pseudo-random numbers, and those that may not be.
+func Mixed(given ...api.Func) []api.Func {
+	l := slices.Clone(given)
+	for seed := range 500 {
+		numbers := &Numbers{Seed: uint64(seed)}
+		l = append(l, numbers.Anyhow(1+numbers.Below(20), 1+numbers.Below(9)))
+	}
+	wrong := Wrong()
+	for _, what := range slices.Sorted(maps.Keys(wrong)) {
+		l = append(l, wrong[what])
+	}
+	return l
 }
 
 // onward is an instruction of a kind, behind those of a function that is to have many, or a Const in place of a Return that would end it early. Most jumps lead on, if there is room.

@@ -1,6 +1,7 @@
 package sample
 
 import (
+	"math"
 	"slices"
 
 	"doppel/api"
@@ -8,9 +9,20 @@ import (
 
 // Wrong is functions that may not be, each for one reason but the last two, by what is wrong with them.
 func Wrong() map[string]api.Func {
+	return wrongOnes(Func("f", 1, 4, 3, Const(0, -7), Jump(2), Binary(api.Div, 1, 2, 3), Branch(1, 0, 4), Return(3), Copy(2, 1), Return(3)))
+}
+
+// WrongSmall is such functions without a frame, of few instructions, with edges to later ones alone where these lead anywhere.
+func WrongSmall() map[string]api.Func {
+	return wrongOnes(Func("f", 1, 4, 0, Const(0, -7), Jump(2), Binary(api.Div, 1, 2, 3), Branch(1, 5, 4), Return(3), Copy(2, 1), Return(3)))
+}
+
+// wrongOnes is what a function becomes if something is made wrong.
+func wrongOnes(valid api.Func) map[string]api.Func {
 	wrong := map[string]api.Func{}
 	add := func(what string, change func(f *api.Func)) {
-		f := Func("f", 1, 4, 3, Const(0, -7), Jump(2), Binary(api.Div, 1, 2, 3), Branch(1, 0, 4), Return(3), Copy(2, 1), Return(3))
+		f := valid
+		f.Code = slices.Clone(valid.Code)
 		change(&f)
 		wrong[what] = f
 	}
@@ -65,4 +77,54 @@ func wrongParts(add func(what string, change func(f *api.Func))) {
 	add("a Call of nothing", func(f *api.Func) { f.Code[2] = Call(-1, "") })
 	add("a Call with too many", func(f *api.Func) { f.Code[2] = Call(-1, "g"); f.Code[2].N = 7 })
 	add("a Call of less than nothing", func(f *api.Func) { f.Code[2] = Call(-1, "g"); f.Code[2].N = -1 })
+}
+
+// WrongUnits is units that may not be, by what is wrong with them. Some function of each calls a small one, where there is any.
+func WrongUnits() map[string]api.Unit {
+	wrong := map[string]api.Unit{}
+	add := func(what string, change func(u *api.Unit)) {
+		u := api.Unit{Top: 9, Funcs: []api.Func{Func("main", 0, 2, 0, Call(0, "s", 1), Return(0)), Func("s", 1, 1, 0, Return(0))}}
+		u.Globals = []api.Global{{Name: "a", At: 1, Size: 2, Init: 5}, {Name: "b", At: 9}}
+		change(&u)
+		wrong[what] = u
+	}
+	for what, f := range Wrong() {
+		add("a function: "+what, func(u *api.Unit) { u.Funcs = append(u.Funcs, f) })
+	}
+	for what, f := range WrongSmall() {
+		add("a small function: "+what, func(u *api.Unit) { u.Funcs = append([]api.Func{f}, u.Funcs...) })
+	}
+	wrongCalls(add)
+	wrongGlobals(add)
+	add("nothing at all", func(u *api.Unit) { *u = api.Unit{} })
+	return wrong
+}
+
+// wrongCalls adds units with functions that do not go together.
+func wrongCalls(add func(what string, change func(u *api.Unit))) {
+	add("65 functions", func(u *api.Unit) {
+		for k := range 63 {
+			u.Funcs = append(u.Funcs, Func(Name(k+1), 0, 1, 0, Return(0)))
+		}
+	})
+	add("two functions of one name", func(u *api.Unit) { u.Funcs = append(u.Funcs, Func("s", 1, 2, 0, Return(1))) })
+	add("the same function twice", func(u *api.Unit) { u.Funcs = append(u.Funcs, u.Funcs[1]) })
+	add("a Call of none", func(u *api.Unit) { u.Funcs[0].Code[0].Text = "t" })
+	add("a Call of none that is not reached", func(u *api.Unit) { u.Funcs[1].Code = Read("return 0; call 0 t; return 0") })
+	add("a Call with too few", func(u *api.Unit) { u.Funcs[0].Code[0] = Call(0, "s") })
+	add("a Call with too many", func(u *api.Unit) { u.Funcs[0].Code[0] = Call(0, "s", 1, 1) })
+	add("a Call of itself with too many", func(u *api.Unit) { u.Funcs[0].Code[0] = Call(0, "main", 1) })
+}
+
+// wrongGlobals adds units of whose memory something is wrong.
+func wrongGlobals(add func(what string, change func(u *api.Unit))) {
+	add("a Top of 0", func(u *api.Unit) { u.Top, u.Globals = 0, nil })
+	add("a Top of -1", func(u *api.Unit) { u.Top, u.Globals = -1, nil })
+	add("a Top of 4097", func(u *api.Unit) { u.Top = 4097 })
+	add("a Top of 2^40", func(u *api.Unit) { u.Top = 1 << 40 })
+	add("a global at 0", func(u *api.Unit) { u.Globals[0].At = 0 })
+	add("a Size of -1", func(u *api.Unit) { u.Globals[0].Size = -1 })
+	add("a global beyond Top", func(u *api.Unit) { u.Globals[1].Size = 1 })
+	add("a global far beyond Top", func(u *api.Unit) { u.Globals[1].Size = math.MaxInt })
+	add("an Init that is no word", func(u *api.Unit) { u.Globals[1].Init = 1 << 31 })
 }
